@@ -1,0 +1,1 @@
+"""Tintrow: a text coloured as it is changed."""

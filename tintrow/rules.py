@@ -1,0 +1,42 @@
+"""Rules, the modes they stand in, and the names that both bear."""
+
+LETTERS = "abcdefghijklmnopqrstuvwxyz"
+LONGEST_NAME = 8
+
+
+def is_name(word):
+    """Whether a word is one to eight small letters."""
+    if len(word) < 1 or len(word) > LONGEST_NAME:
+        return False
+    return all([sign in LETTERS for sign in word])
+
+
+class Rule:
+    """A pattern with what is done where it comes.
+
+    colour is the text without signs where the pattern eats nothing; deed is "stay", "push", "pop" or "into";
+    goal is the number of the mode that is pushed or gone into, else None; fold is "open", "close" or "".
+    """
+
+    def __init__(self, pattern, colour, deed, goal, fold):
+        self.pattern = pattern
+        self.colour = colour
+        self.deed = deed
+        self.goal = goal
+        self.fold = fold
+
+
+class Mode:
+    """A name, a colour for what no rule eats, and a list of rules in their order."""
+
+    def __init__(self, name, colour, rules):
+        self.name = name
+        self.colour = colour
+        self.rules = list(rules)
+
+
+class Rules:
+    """A list of modes, of which the first one is the start mode."""
+
+    def __init__(self, modes):
+        self.modes = list(modes)
