@@ -29,11 +29,17 @@ NO_WORDS = re.compile(
     r"\b(type|typing|typing_extensions|enum|Enum|IntEnum|StrEnum|Flag|IntFlag|Generic|Protocol|ABC|ABCMeta|namedtuple|"
     r"NamedTuple|TypedDict|TYPE_CHECKING|abstractmethod)\b|dataclass|overload|contextmanager"
 )
+WALKED = set("zip enumerate reversed range items keys values".split())
+WALKERS = set("list tuple dict sorted sum any all enumerate zip min max join".split())
 NO_NAMES = set("register mro elements open input version_info with_traceback add_note format format_map args".split())
 
 
 def nodes(tree, *kinds):
     return [node for node in ast.walk(tree) if isinstance(node, kinds)]
+
+
+def called_name(node):
+    return node.func.attr if isinstance(node.func, ast.Attribute) else getattr(node.func, "id", None)
 
 
 class Form(unittest.TestCase):
@@ -119,6 +125,31 @@ class Form(unittest.TestCase):
         for where, node in self.each(ast.FunctionDef):
             self.assertTrue(node.name in SPECIAL_METHODS or re.match("^[a-z]", node.name), where)
             self.assertNotIn(node.name, NO_NAMES, where)
+
+    def test_no_local_is_called_like_a_class_or_an_import_of_its_file(self):
+        for name, tree in self.trees.items():
+            taken = {part.name for row in nodes(tree, ast.ImportFrom) for part in row.names}
+            taken |= {part.name for part in nodes(tree, ast.ClassDef)}
+            bound = {part.arg for part in nodes(tree, ast.arg)}
+            bound |= {part.id for part in nodes(tree, ast.Name) if isinstance(part.ctx, ast.Store)}
+            self.assertEqual(taken & bound, set(), name)
+
+    def test_each_name_stands_once_at_a_files_top(self):
+        for name, tree in self.trees.items():
+            bound = [part.name for row in nodes(tree, ast.ImportFrom) for part in row.names]
+            bound += [part.name for part in tree.body if isinstance(part, (ast.FunctionDef, ast.ClassDef))]
+            bound += [part.targets[0].id for part in tree.body if isinstance(part, ast.Assign)]
+            self.assertEqual(len(bound), len(set(bound)), name)
+
+    def test_walked_at_once(self):
+        for name, tree in self.trees.items():
+            walked = {id(node.iter) for node in nodes(tree, ast.For, ast.comprehension)}
+            for node in nodes(tree, ast.Call):
+                if called_name(node) in WALKERS and node.args:
+                    walked.add(id(node.args[0]))
+            for node in nodes(tree, ast.Call):
+                if called_name(node) in WALKED:
+                    self.assertIn(id(node), walked, (name, node.lineno))
 
     def test_methods_and_fields(self):
         own = self.own_methods()

@@ -2,6 +2,8 @@
 
 LETTERS = "abcdefghijklmnopqrstuvwxyz"
 LONGEST_NAME = 8
+# Modes are numbered in their text's order, and its first one is the start mode.
+START = 0
 
 
 def is_name(word):
@@ -40,3 +42,18 @@ class Rules:
 
     def __init__(self, modes):
         self.modes = list(modes)
+
+
+def copied_rules(rules):
+    """Rules of the same fields that do not hang on these."""
+    return Rules([copied_mode(mode) for mode in rules.modes])
+
+
+def copied_mode(mode):
+    """A Mode of the same fields that does not hang on this one."""
+    return Mode(mode.name, mode.colour, [copied_rule(rule) for rule in mode.rules])
+
+
+def copied_rule(rule):
+    """A Rule of the same fields; the pattern is shared, since it only answers."""
+    return Rule(rule.pattern, rule.colour, rule.deed, rule.goal, rule.fold)
