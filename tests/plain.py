@@ -269,3 +269,175 @@ class Watched:
     def place(self, row, at):
         """How many signs and line ends stand ahead of a place."""
         return sum([len(ahead) + 1 for ahead in self.rows[:row]]) + at
+
+
+def plain_folds(rows_marks):
+    """All open marks in their order, each with the place at which, counted from it on, as many are closed as opened."""
+    every = [(row, place, kind) for row, marks in enumerate(rows_marks) for place, kind in marks]
+    openings = [number for number, mark in enumerate(every) if mark[2] == "open"]
+    return [(every[number][0], every[number][1], plain_end(every[number:])) for number in openings]
+
+
+def plain_end(marks):
+    """The place of the mark that closes the first one of these, or None."""
+    deep = 0
+    for row, place, kind in marks:
+        deep += {"open": 1, "close": -1}[kind]
+        if deep == 0:
+            return (row, place)
+    return None
+
+
+def plain_depths(rows_marks):
+    """How many folds reach over each row's begin."""
+    folds = plain_folds(rows_marks)
+    return [
+        len([1 for begin, place, end in folds if begin < row and (end is None or end[0] >= row)])
+        for row in range(len(rows_marks))
+    ]
+
+
+def plain_fold_of(rows_marks, row):
+    """The row where the fold of this row ends, or None."""
+    ends = [end[0] for begin, place, end in plain_folds(rows_marks) if begin == row and end is not None and end[0] > row]
+    return ends[0] if ends else None
+
+
+def plain_tint(colours):
+    """A row's tint, run by run."""
+    runs = []
+    for colour in colours:
+        if runs and runs[-1][1] == colour:
+            runs[-1][0] += 1
+        else:
+            runs.append([1, colour])
+    return ", ".join([f"{many} {colour}" for many, colour in runs])
+
+
+def plain_place(rows, many):
+    """The place ahead of which so many signs and line ends stand."""
+    ahead = "\n".join(rows)[:many].split("\n")
+    return (len(ahead) - 1, len(ahead[-1]))
+
+
+def all_places(rows):
+    return [(row, at) for row, signs in enumerate(rows) for at in range(len(signs) + 1)]
+
+
+def told_by(scribe):
+    """All that a scribe tells, the order of its marks too."""
+    text = scribe.text()
+    numbers = range(len(text.rows()))
+    rows = [(text.rows()[row], text.begin(row), text.colours(row), text.marks(row)) for row in numbers]
+    return (rows, scribe.folds(), list(scribe.marks().items()))
+
+
+class WatchedScribe:
+    """A scribe beside its rows and marks; behind each deed all that it tells is held against the plain reading.
+
+    A deed is kept as the row it begins with, the rows it took out and gave, the marks then and all that was told then.
+    """
+
+    def __init__(self, case, scribe, rules_text, rows):
+        self.case = case
+        self.scribe = scribe
+        self.watched = Watched(case, scribe.text(), rules_text, rows)
+        self.marks = {}
+        self.done = []
+        self.undone = []
+        self.check()
+
+    @property
+    def rows(self):
+        return self.watched.rows
+
+    def check(self):
+        self.watched.tinted = self.scribe.text()
+        self.watched.check()
+        marks = self.scribe.marks()
+        self.case.assertIs(type(marks), dict)
+        self.case.assertEqual(list(marks.items()), sorted(self.marks.items()))
+        self.case.assertTrue(all(type(place) is tuple for place in marks.values()))
+        told = plain_text(self.watched.modes, self.rows)
+        self.case.assertEqual(self.scribe.folds(), plain_folds(told[2]))
+
+    def become(self, row, many, new, count, marks):
+        """Takes the rows and the marks for changed, and holds against them all that is told."""
+        self.watched.tinted = self.scribe.text()
+        self.watched.become(row, many, new, count)
+        self.marks = marks
+        self.check()
+        return count
+
+    def do(self, row, many, new, deed, moved):
+        """Does a deed; moved tells of how many signs a mark stood behind of how many it then does."""
+        offsets = {name: moved(self.watched.place(*place)) for name, place in self.marks.items()}
+        kept = (row, self.rows[row : row + many], new, dict(self.marks), told_by(self.scribe))
+        marks = {name: plain_place(plain_change(self.rows, row, many, new), offset) for name, offset in offsets.items()}
+        count = self.become(row, many, new, deed(), marks)
+        self.done.append(kept)
+        self.undone = []
+        return count
+
+    def put(self, row, at, text):
+        first = self.watched.place(row, at)
+        new = (self.rows[row][:at] + text + self.rows[row][at:]).split("\n")
+        return self.do(
+            row, 1, new, lambda: self.scribe.put(row, at, text), lambda mark: mark + len(text) if mark >= first else mark
+        )
+
+    def cut(self, row, at, row2, at2):
+        first, second = self.watched.place(row, at), self.watched.place(row2, at2)
+        new = [self.rows[row][:at] + self.rows[row2][at2:]]
+        return self.do(
+            row,
+            row2 - row + 1,
+            new,
+            lambda: self.scribe.cut(row, at, row2, at2),
+            lambda mark: mark - min(max(mark - first, 0), second - first),
+        )
+
+    def undo(self):
+        row, taken, given, marks, told = self.done.pop()
+        self.undone.append((row, taken, given, self.marks, told_by(self.scribe), (marks, told)))
+        count = self.become(row, len(given), taken, self.scribe.undo(), dict(marks))
+        self.case.assertEqual(told_by(self.scribe), told)
+        return count
+
+    def redo(self):
+        row, taken, given, marks, told, first = self.undone.pop()
+        self.done.append((row, taken, given, *first))
+        count = self.become(row, len(taken), given, self.scribe.redo(), dict(marks))
+        self.case.assertEqual(told_by(self.scribe), told)
+        return count
+
+    def set_mark(self, name, row, at):
+        self.case.assertIsNone(self.scribe.set_mark(name, row, at))
+        self.marks[name] = (row, at)
+        self.check()
+
+    def drop_mark(self, name):
+        self.case.assertIsNone(self.scribe.drop_mark(name))
+        del self.marks[name]
+        self.check()
+
+
+def some_text(chance, signs, most_rows):
+    """A text by chance of up to so many rows, each of up to six of these signs."""
+    rows = ["".join([chance.choice(signs) for turn in range(chance.randint(0, 6))]) for row in range(most_rows)]
+    return "\n".join(rows[: chance.randint(1, most_rows)])
+
+
+def some_deed(chance, scribe, signs):
+    """A method of a scribe that is watched and what is handed to it, by chance, such that it is not refused."""
+    first, second = sorted(chance.choices(all_places(scribe.rows), k=2))
+    deed = chance.choice(["put", "put", "put", "cut", "cut", "undo", "undo", "undo", "redo", "redo", "mark", "mark", "drop"])
+    if deed == "put":
+        return ("put", *first, "" if chance.randrange(8) == 0 else some_text(chance, signs, 3))
+    if deed == "cut":
+        return ("cut", *first, *(first if chance.randrange(8) == 0 else second))
+    if deed == "undo" and scribe.done or deed == "redo" and scribe.undone:
+        return (deed,)
+    if deed == "drop" and scribe.marks:
+        return ("drop_mark", chance.choice(sorted(scribe.marks)))
+    return ("set_mark", chance.choice(["a", "b", "aa", "mark", "eightlet"]), *first)

@@ -3,7 +3,9 @@
 import random
 import unittest
 
-from tests.plain import SIGNS, is_ring, plain_modes, plain_text
+from tests.plain import SIGNS, all_places, is_ring, plain_folds, plain_modes, plain_text, plain_tint
+from tintrow.desk import Desk
+from tintrow.folds import depths, fold_of, folds
 from tintrow.going import gone_over
 from tintrow.looking import ask_rings, first_rule, piece_of, ring_of
 from tintrow.reading import read_rules
@@ -149,6 +151,90 @@ class LargeTexts(unittest.TestCase):
         rules = read_rules("mode a x\nany red push a")
         told = begins(rules, ["k" * 200] * 15)
         self.assertEqual([len(on) for on in told], list(range(1, 3002, 200)))
+
+
+class LargeFolds(unittest.TestCase):
+    def test_piled_up_over_all_rows(self):
+        marks = [[(place, "open") for place in range(200)]] * 15 + [[]] * 370 + [[(0, "close")] * 200] * 15
+        told = folds(marks)
+        self.assertEqual(len(told), 3000)
+        self.assertEqual(told[0], (0, 0, (399, 0)))
+        self.assertEqual(told[-1], (14, 199, (385, 0)))
+        self.assertEqual(depths(marks)[:16], list(range(0, 3001, 200)))
+        self.assertEqual(fold_of(marks, 0), 399)
+        self.assertEqual([fold_of(marks, row) for row in (13, 14, 15, 399)], [386, 385, None, None])
+
+    def test_many_one_behind_another(self):
+        marks = [[(place, ("open", "close")[place % 2]) for place in range(200)] for row in range(400)]
+        self.assertEqual(folds(marks), [(row, at, (row, at + 1)) for row in range(400) for at in range(0, 200, 2)])
+        self.assertEqual(depths(marks), [0] * 400)
+
+
+class LargeDesk(unittest.TestCase):
+    """A text of 400 rows of 200 signs at a desk."""
+
+    RULES = (
+        "mode start black\nword '/* green push remark open\nmany '0123456789 blue stay\nany black stay\n"
+        "mode remark grey\nword '/* green push remark open\nword '*/ green pop close\nmany 'abcdef grey stay"
+    )
+
+    def told(self, desk):
+        rows = [desk.say(f"row {row}") for row in range(400)]
+        return (rows, [desk.say(f"tint {row}") for row in range(400)], desk.say("folds"), desk.say("marks"))
+
+    def plain(self, rows):
+        """What the desk is to tell of these rows by the plain reading."""
+        told = plain_text(plain_modes(self.RULES), rows)
+        ends = [(row, at, end or ("-", "-")) for row, at, end in plain_folds(told[2])]
+        tints = [plain_tint(colours) for colours in told[1]]
+        return (rows, tints, "\n".join([f"{row} {at} {end[0]} {end[1]}" for row, at, end in ends]))
+
+    def test_a_hundred_deeds_undone_and_done_once_more(self):
+        chance = random.Random(24)
+        rows = ["".join([chance.choice("abcdefghijk0123 ") for at in range(200)]) for row in range(400)]
+        desk = Desk()
+        self.assertEqual(desk.say("rules\n" + self.RULES), "ok")
+        self.assertEqual(desk.say("put 0 0\n" + "\n".join(rows)), "400")
+        self.assertEqual(desk.say("mark first 0 0"), "ok")
+        self.assertEqual(desk.say("mark last 399 200"), "ok")
+        first = self.told(desk)
+        self.assertEqual(first[:3], self.plain(rows))
+        for deed in range(50):
+            row, at = chance.choice(all_places(rows[:400]))
+            piece = chance.choice(["/*", "*/", "/* */", "x", "7", "/*\n*/"])
+            desk.say(f"put {row} {at}\n{piece}")
+            rows[row : row + 1] = (rows[row][:at] + piece + rows[row][at:]).split("\n")
+            row = chance.randrange(400)
+            at, at2 = sorted(chance.choices(range(len(rows[row]) + 1), k=2))
+            desk.say(f"cut {row} {at} {row} {at2}")
+            rows[row] = rows[row][:at] + rows[row][at2:]
+        last = self.told(desk)
+        self.assertEqual([desk.say(f"row {row}") for row in range(len(rows))], rows)
+        self.assertEqual(self.plain(rows)[0][:400], last[0])
+        self.assertEqual(self.plain(rows)[1][:400], last[1])
+        self.assertEqual(self.plain(rows)[2], last[2])
+        for turn in range(2):
+            undone = [int(desk.say("undo")) for deed in range(100)]
+            self.assertEqual(self.told(desk), first)
+            done = [int(desk.say("redo")) for deed in range(100)]
+            self.assertEqual(self.told(desk), last)
+            self.assertGreater(max(undone + done), 1)
+
+    def test_all_of_it_taken_out_and_put_back(self):
+        rows = ["/*" * 100] * 15 + ["x" * 200] * 370 + ["*/" * 100] * 15
+        desk = Desk()
+        desk.say("rules\n" + self.RULES)
+        self.assertEqual(desk.say("put 0 0\n" + "\n".join(rows)), "400")
+        desk.say("mark m 200 100")
+        self.assertEqual(desk.say("cut 0 0 399 200"), "1")
+        self.assertEqual((desk.say("row 0"), desk.say("marks"), desk.say("folds")), ("", "m 0 0", ""))
+        self.assertEqual(desk.say("undo"), "400")
+        self.assertEqual(desk.say("marks"), "m 200 100")
+        self.assertEqual(self.told(desk)[:3], self.plain(rows))
+        self.assertEqual(desk.say("put 0 0\n/*"), "400")
+        self.assertEqual(desk.say("undo"), "400")
+        self.assertEqual(desk.say("rules\nmode a x"), "ok")
+        self.assertEqual(desk.say("tint 399"), "200 x")
 
 
 if __name__ == "__main__":
